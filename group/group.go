@@ -1,7 +1,7 @@
 // Package group reads and writes values between parentheses, as the promises 15.3
 // and 15.4 in the chapter 15-variants.md of the document say. It is a package of its
-// own because the axes of Variants and the keys of Variant-Key (16.1 and 16.2) are
-// written in the same way.
+// own because the axes of Variants, the keys of Variant-Key (16.1 and 16.2) and the
+// classes of requests (18.1) are written in the same way.
 //
 // What a value stands for is not judged here: it may be any text, also an empty one.
 package group
